@@ -3,6 +3,8 @@ import inspect
 import unittest
 
 from errorplaces.kinds import Kinds
+from errorplaces.scopes import Scopes
+from errorplaces.tables import Table
 
 FUNCTIONS = [
     ("trees", "is_tree", ["kinds", "thing"]),
@@ -12,6 +14,23 @@ FUNCTIONS = [
     ("handlers", "is_form", ["kinds", "thing"]),
     ("handlers", "is_stack", ["kinds", "thing"]),
     ("handlers", "addresses", ["kinds", "stack"]),
+    ("running", "handled", ["kinds", "stack", "tree", "first"]),
+    ("running", "passage", ["kinds", "stack", "tree"]),
+    ("running", "way", ["kinds", "stack", "tree", "place"]),
+    ("templates", "is_template", ["kinds", "thing"]),
+    ("templates", "fill", ["kinds", "template", "tree"]),
+]
+KINDS = ["__init__", "of", "order", "below", "above", "LIMIT", "__eq__", "__len__", "__repr__"]
+TABLE = ["__init__", "kinds", "row", "rows", "then", "outcome", "__call__", "__eq__", "__len__", "__repr__"]
+SCOPES = ["__init__", "LIMIT", "begin", "set_stack", "raise_in", "close", "collected", "outcomes", "open_scopes", "place_of",
+          "destiny", "kind_of", "__len__"]
+METHODS = [
+    (Table, "row", ["self", "names", "bare"]), (Table, "rows", ["self"]), (Table, "then", ["self", "others"]),
+    (Table, "outcome", ["self", "tree"]), (Table, "__call__", ["self", "tree"]), (Table, "__init__", ["self", "kinds", "guards"]),
+    (Scopes, "__init__", ["self", "kinds"]), (Scopes, "begin", ["self", "message", "guards", "parent"]),
+    (Scopes, "set_stack", ["self", "scope", "guards"]), (Scopes, "raise_in", ["self", "scope", "names"]),
+    (Scopes, "close", ["self", "scope"]), (Scopes, "collected", ["self", "scope"]), (Scopes, "place_of", ["self", "number"]),
+    (Scopes, "destiny", ["self", "number"]), (Scopes, "kind_of", ["self", "number"]),
 ]
 
 
@@ -25,25 +44,40 @@ class TestInterface(unittest.TestCase):
                 self.assertEqual((made.__module__, made.__name__), ("errorplaces." + file, name))
                 self.assertEqual(list(inspect.signature(made).parameters), parameters)
 
-    def test_leaves_yields(self):
-        made = importlib.import_module("errorplaces.trees").leaves
-        self.assertTrue(inspect.isgeneratorfunction(made))
+    def test_what_yields(self):
+        for file, name in (("trees", "leaves"), ("running", "passage")):
+            self.assertTrue(inspect.isgeneratorfunction(getattr(importlib.import_module("errorplaces." + file), name)))
+        self.assertTrue(inspect.isgeneratorfunction(Table.rows))
 
-    def test_kinds_is_defined_in_its_file(self):
-        self.assertEqual((Kinds.__module__, Kinds.__name__), ("errorplaces.kinds", "Kinds"))
+    def test_each_class_is_defined_in_its_file(self):
+        for made, file in ((Kinds, "kinds"), (Table, "tables"), (Scopes, "scopes")):
+            self.assertEqual(made.__module__, "errorplaces." + file)
 
-    def test_kinds_has_all_its_methods_itself(self):
-        for name in ("__init__", "of", "order", "below", "above", "LIMIT", "__eq__", "__len__", "__repr__"):
-            self.assertIn(name, vars(Kinds))
+    def test_each_class_has_all_its_methods_itself(self):
+        for made, names in ((Kinds, KINDS), (Table, TABLE), (Scopes, SCOPES)):
+            for name in names:
+                self.assertIn(name, vars(made))
         self.assertIsInstance(vars(Kinds)["of"], classmethod)
-        self.assertIsInstance(vars(Kinds)["order"], property)
+        for made, name in ((Kinds, "order"), (Table, "kinds"), (Scopes, "outcomes"), (Scopes, "open_scopes")):
+            self.assertIsInstance(vars(made)[name], property)
+
+    def test_parameters_of_tables_and_scopes(self):
+        for made, name, parameters in METHODS:
+            with self.subTest(name):
+                self.assertEqual(list(inspect.signature(vars(made)[name]).parameters), parameters)
+
+    def test_parameters_that_are_passed_by_keyword_only(self):
+        handled = importlib.import_module("errorplaces.running").handled
+        for made, name, default in ((handled, "first", 0), (Table.row, "bare", False), (Scopes.begin, "parent", None)):
+            parameter = inspect.signature(made).parameters[name]
+            self.assertEqual((parameter.kind, parameter.default), (inspect.Parameter.KEYWORD_ONLY, default))
 
     def test_each_table_has_all_that_is_listed(self):
         for made in (Kinds(), Kinds(io=()), Kinds.of([]), Kinds.of([("io", ())])):
             for name in ("of", "order", "below", "above", "LIMIT"):
                 self.assertTrue(hasattr(made, name))
 
-    def test_parameters_of_methods(self):
+    def test_parameters_of_kinds(self):
         self.assertEqual(list(inspect.signature(Kinds.of).parameters), ["rows"])
         self.assertEqual(list(inspect.signature(Kinds().below).parameters), ["name"])
         self.assertEqual(list(inspect.signature(Kinds().above).parameters), ["name"])
