@@ -44,9 +44,29 @@ def spread(root, inside):
     return nodes, spans
 
 
+def folded(root, inside, made_of):
+    """Return made_of(root, what was made of its children), likewise for all nodes below it."""
+    nodes, spans = spread(root, inside)
+    made = list(nodes)
+    for at in reversed(range(len(nodes))):
+        first, last = spans[at]
+        made[at] = made_of(nodes[at], made[first:last])
+    return made[0]
+
+
 def copied(value):
     """Return an equal value that has no list in common with this one."""
-    nodes, spans = spread(value, _inside)
+    nodes, spans = taken_apart(value)
+    return put_together(nodes, spans)
+
+
+def taken_apart(value):
+    """Return the nodes and spans of a value, from which it can be put together any number of times."""
+    return spread(value, _inside)
+
+
+def put_together(nodes, spans):
+    """Return the value that was taken apart, with lists of its own."""
     made = list(nodes)
     for at in reversed(range(len(nodes))):
         first, last = spans[at]

@@ -63,9 +63,26 @@ def run_stack(kinds, stack, tree, numbers):
     return stations
 
 
+def taker(kinds, guard, kind):
+    """Return the path of indices to the innermost clause that takes the leaves of a kind, and its action.
+
+    The path is () if no clause takes them.
+    """
+    path = ()
+    action = ("pass", guard)
+    while action[0] == "pass":
+        inner = action[1]
+        taking = [c for c, clause in enumerate(inner) if _is_under(kinds, kind, clause[0])]
+        if not taking:
+            break
+        path = (*path, taking[0])
+        action = inner[taking[0]][1]
+    return path, action
+
+
 def drop_path(kinds, guard, kind):
     """Return the path of indices to the clause that drops the leaves of a kind, None if they come out."""
-    path, action = _taker(kinds, guard, kind)
+    path, action = taker(kinds, guard, kind)
     return path if _drops(kinds, action, kind) else None
 
 
@@ -145,23 +162,6 @@ def _built(form, tree, numbers):
     return rebuilt(form, lambda piece: tree if piece == "*" else numbers.leaf(piece))
 
 
-def _taker(kinds, guard, kind):
-    """Return the path of indices to the innermost clause that takes the leaves of a kind, and its action.
-
-    The path is () if no clause takes them.
-    """
-    path = ()
-    action = ("pass", guard)
-    while action[0] == "pass":
-        inner = action[1]
-        taking = [c for c, clause in enumerate(inner) if _is_under(kinds, kind, clause[0])]
-        if not taking:
-            break
-        path = (*path, taking[0])
-        action = inner[taking[0]][1]
-    return path, action
-
-
 def _drops(kinds, action, kind):
     if action[0] == "keep":
         return not _is_under(kinds, kind, action[1])
@@ -176,7 +176,7 @@ def _steps(kinds, stack, tree, leaf):
         raised, left = _run_guard(kinds, guard, tree, Numbers(0))
         tree = _guard_outcome(raised, left)
         place = _place_in(tree, leaf)
-        path, _ = _taker(kinds, guard, leaf[0])
+        path, _ = taker(kinds, guard, leaf[0])
         steps.append(((g, *path) if path else (), _word(path, place, len(raised)), place))
         if place is None:
             break

@@ -123,9 +123,12 @@ class Scopes:
         if not is_number(number) or not 1 <= number <= len(self._errors.raised):
             raise NoError(number)
 
-    def _opened(self, number):
+    def _check_scope(self, number):
         if not is_number(number) or number >= len(self._scopes):
             raise NoScope(number)
+
+    def _opened(self, number):
+        self._check_scope(number)
         if not self._scopes[number].is_open:
             raise Closed(number)
         return self._scopes[number]

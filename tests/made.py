@@ -14,6 +14,8 @@ FAMILIES = [
     dict(a=(), b=("a",), c=("b",), d=(), e=("d", "a"), f=("c", "e"), g=()),
 ]
 BASES = FAMILIES[0]
+FIVE = dict(a=(), b=("a",), c=("a",), d=("b", "c"), e=())
+ACTION_NAMES = {"drop": (), "back": ("drop",), "keep": (), "raise": ("keep", "drop"), "pass": ("raise",)}
 STAR_FORMS = ["*", ("", ("*",)), ("m", ("*", "net")), ("m", ("net", "*", "io")), ("a", (("b", ("disk", ("", ("*",)))), "net"))]
 FORMS = [*STAR_FORMS, "io", "both", ("m", ("net",)), ("m", ("net", ("n", ("io", "disk")), "both"))]
 ACTIONS = [
@@ -38,6 +40,9 @@ EDGES = [
     # New leaves are dropped later.
     (H, ((("net",), "drop"),)), (H, ((("io",), "drop"),)), (P, ((("disk",), "drop"),), G),
 ]
+SIGNS = "abimotxz:,()*-;|<>/.+ 0123789AZ~"
+WORDS = ["io", "net", "drop", "back", "keep", "raise", "pass", "(", ")", ";", "|", "-", "*", "io,net", "m(*,io)", "io:1", "0", "1",
+         "m(io:1,(net:2))", "", "kinds", "open", "under", "set", "close", "place", "destiny", "handle", "row", "day", "net<io", "cpu"]
 
 
 def under_all(bases):
@@ -110,3 +115,23 @@ def done(scopes, call):
     """What a call returns."""
     word, arguments, named = call
     return getattr(scopes, word)(*arguments, **named)
+
+
+def spoilt(dice, text):
+    """The text with a sign or a word left out, put in, doubled, changed or exchanged with another."""
+    by_words = dice.random() < 0.5
+    parts = text.split(" ") if by_words else list(text)
+    other = dice.choice(WORDS if by_words else SIGNS)
+    way = dice.choice(["out", "in", "twice", "change", "exchange"])
+    at, to = dice.randrange(len(parts) or 1), dice.randrange(len(parts) or 1)
+    if way == "in":
+        parts.insert(at, other)
+    elif parts and way == "out":
+        del parts[at]
+    elif parts and way == "twice":
+        parts.insert(at, parts[at])
+    elif parts and way == "change":
+        parts[at] = other
+    elif parts:
+        parts[at], parts[to] = parts[to], parts[at]
+    return (" " if by_words else "").join(parts)

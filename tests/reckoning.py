@@ -70,6 +70,7 @@ class Reckoner:
 
     def __init__(self, bases):
         self.bases = bases
+        self.fired = set()      # the addresses of all clauses that have fired
 
     def under(self, kind, names):
         return kind in names or any(self.under(base, names) for base in self.bases[kind])
@@ -93,6 +94,7 @@ class Reckoner:
             for leaf in took:
                 leaf.address = prefix + (c,)
             if took:
+                self.fired.add(prefix + (c,))
                 raised_here, back = self.act(action, only(node, took), numbers, prefix + (c,))
                 raised += raised_here
                 returned += back
@@ -176,6 +178,71 @@ class Reckoner:
         if isinstance(inner, int):
             return tree if inner == 0 else ("*", (head,))
         return (head, tuple([self.holes(child) for child in inner]))
+
+
+class Asker:
+    """Answers questions about stacks by running them on a tree of each set of kinds, and on each bare leaf."""
+
+    def __init__(self, bases):
+        self.bases = bases
+        names = sorted(bases)
+        sets = [chosen for many in range(1, len(names) + 1) for chosen in itertools.combinations(names, many)]
+        self.probes = [(name, 1) for name in names]
+        self.probes += [(PROBE, tuple([(name, 1) for name in chosen])) for chosen in sets]
+
+    def outcomes(self, stack):
+        return [Reckoner(self.bases).outcome(stack, probe) for probe in self.probes]
+
+    def fewest(self, one, other):
+        """The fewest leaves of a probe that tells two stacks apart, None if there is none."""
+        rows = zip(self.probes, self.outcomes(one), self.outcomes(other))
+        return min([len(spots(grown(probe))) for probe, found, expected in rows if found != expected], default=None)
+
+    def drops(self, stack):
+        """The sets of what drops the leaves of each kind in any probe: an address, or None if they come out."""
+        found = {name: set() for name in self.bases}
+        for probe in self.probes:
+            for (_, leaf), way in zip(spots(grown(probe)), Reckoner(self.bases).run(stack, probe)[1]):
+                dropping = [address for address, word, _ in way if word == "dropped"]
+                found[leaf.kind].add(dropping[0] if dropping else None)
+        return found
+
+    def idle(self, stack):
+        reckoner = Reckoner(self.bases)
+        for probe in self.probes:
+            reckoner.run(stack, probe)
+        return [address for address in all_addresses(stack) if address not in reckoner.fired]
+
+    def spare(self, stack):
+        expected = self.outcomes(stack)
+        return [address for address in all_addresses(stack) if self.outcomes(left_out(stack, address)) == expected]
+
+    def added(self, stack):
+        outcomes = [outcome for outcome in self.outcomes(stack) if outcome is not None]
+        return sorted({leaf.kind for outcome in outcomes for _, leaf in spots(grown(outcome)) if leaf.number == 0})
+
+
+def all_addresses(stack):
+    def within(guard, prefix):
+        for c, (_, action) in enumerate(guard):
+            yield prefix + (c,)
+            if action[0] == "pass":
+                yield from within(action[1], prefix + (c,))
+    return [address for g, guard in enumerate(stack) for address in within(guard, (g,))]
+
+
+def left_out(stack, address):
+    """The stack without the clause at this address."""
+    lists = retyped(stack, tuple, list)
+    guard = lists[address[0]]
+    for c in address[1:-1]:
+        guard = guard[c][1][1]
+    del guard[address[-1]]
+    return retyped(lists, list, tuple)
+
+
+def retyped(value, one, other):
+    return other([retyped(item, one, other) for item in value]) if isinstance(value, one) else value
 
 
 def filled(template, tree):

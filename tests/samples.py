@@ -30,3 +30,5 @@ UNLIKE = [
     nested((), 50, lambda inner: (inner,)), nested([], 50, lambda inner: [inner]),
     tuple(range(5000)), list(range(5000)), ["x"] * 5000,
 ]
+NO_STACKS = [thing for thing in [*UNLIKE, [G], G, H, P, (G, 5), as_lists((G,)), ((((), "drop"),),), (((("cpu",), "drop"),),)]
+             if thing not in ((), ((),))]

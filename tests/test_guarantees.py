@@ -1,21 +1,36 @@
-"""Point [3], as far as it is about running, tables and scopes."""
+"""Point [3]."""
 
 import itertools
 import unittest
 
+from errorplaces.desk import Desk
+from errorplaces.questions import drops, telling
+from errorplaces.records import RecordedScopes
 from errorplaces.running import handled, way
 from errorplaces.scopes import Scopes
 from errorplaces.tables import Table
 from errorplaces.templates import fill
+from errorplaces.texts import read_stack, read_tree, show_stack, show_template, show_tree
 from errorplaces.trees import leaves
-from made import BASES, EDGES, FAMILIES, ONE_CLAUSE, Maker, done, under_all
-from reckoning import Reckoner, grown, spots
+from made import BASES, EDGES, FAMILIES, FIVE, ONE_CLAUSE, Maker, done, under_all
+from reckoning import Asker, Reckoner, grown, spots
 from samples import K, T
 
 RECKONER = Reckoner(BASES)
 SETS = under_all(BASES)
 TREES = [T, *[(name, 1) for name in K.order], *[("m", ((name, 1),)) for name in K.order], *Maker(200).trees(40)]
 STACKS = [*EDGES, *ONE_CLAUSE, *Maker(201).stacks(60)]
+
+
+def numbers_of(scopes):
+    """All numbers that were given: those in sight, and the dropped ones between them."""
+    found = []
+    for number in itertools.count(1):
+        try:
+            scopes.place_of(number)
+        except LookupError:
+            return found
+        found.append(number)
 
 
 class TestTablesAndStacks(unittest.TestCase):
@@ -44,6 +59,29 @@ class TestTablesAndStacks(unittest.TestCase):
         for (n, one), (k, other) in itertools.combinations(enumerate(STACKS), 2):
             if tables[n] == tables[k]:
                 self.assertEqual([handled(K, one, tree) for tree in TREES], [handled(K, other, tree) for tree in TREES])
+
+
+    def test_unequal_tables_are_told_apart_by_a_tree_with_the_fewest_leaves(self):
+        asker = Asker(BASES)
+        told = [(Table(K, *stack), asker.outcomes(stack)) for stack in STACKS]
+        leaves_of = [len(spots(grown(probe))) for probe in asker.probes]
+        for (one, found), (other, expected) in itertools.combinations(told, 2):
+            tree = telling(one, other)
+            apart = [many for many, left, right in zip(leaves_of, found, expected) if left != right]
+            self.assertEqual((tree is None, one == other), (not apart, not apart))
+            if apart:
+                self.assertEqual(len(list(leaves(tree))), min(apart))
+                self.assertNotEqual(one(tree), other(tree))
+
+    def test_five_kinds_and_three_guards(self):
+        maker, reckoner = Maker(203, FIVE), Reckoner(FIVE)
+        for _ in range(20):
+            stack = tuple([maker.guard() for _ in range(3)])
+            table = Table(maker.kinds, *stack)
+            self.assertEqual(table, Table(maker.kinds, stack[0]).then(Table(maker.kinds, stack[1]), Table(maker.kinds, stack[2])))
+            for tree in maker.trees(20):
+                self.assertEqual(table(tree), reckoner.outcome(stack, tree))
+                self.assertEqual(handled(maker.kinds, stack, tree), reckoner.outcome(stack, tree))
 
 
 class TestLeaves(unittest.TestCase):
@@ -83,6 +121,7 @@ class TestLeaves(unittest.TestCase):
                         fates.setdefault(kind, dropped)
                         self.assertEqual(dropped, fates[kind])
                         self.assertEqual(number in out, not dropped)
+                        self.assertEqual(dropped, [address for address in [drops(maker.kinds, stack)[kind]] if address is not None])
 
 
 class TestScopes(unittest.TestCase):
@@ -101,16 +140,6 @@ class TestScopes(unittest.TestCase):
             done(scopes, call)
         return scopes
 
-    def numbers(self, scopes):
-        """All numbers that were given: those in sight, and the dropped ones between them."""
-        found = []
-        for number in itertools.count(1):
-            try:
-                scopes.place_of(number)
-            except LookupError:
-                return found
-            found.append(number)
-
     def in_sight(self, scopes):
         """A list of pairs of a number and a place, for all that is waiting or out."""
         found = []
@@ -126,7 +155,7 @@ class TestScopes(unittest.TestCase):
             scopes, _ = self.made(Maker(300 + seed, FAMILIES[seed % 5]), 30)
             seen = self.in_sight(scopes)
             self.assertEqual(len(seen), len(dict(seen)))
-            for number in self.numbers(scopes):
+            for number in numbers_of(scopes):
                 place = scopes.place_of(number)
                 self.assertEqual(dict(seen).get(number), None if place[0] == "dropped" else place)
 
@@ -134,7 +163,7 @@ class TestScopes(unittest.TestCase):
         for seed in range(80):
             maker = Maker(400 + seed, FAMILIES[seed % 5])
             scopes, _ = self.made(maker, 20)
-            told = {number: scopes.destiny(number) for number in self.numbers(scopes)}
+            told = {number: scopes.destiny(number) for number in numbers_of(scopes)}
             for _ in range(15):
                 done(scopes, maker.call(scopes, set_too=False))
                 for number in told:
@@ -156,7 +185,7 @@ class TestScopes(unittest.TestCase):
                 if not self.is_under(parents, other, one):
                     first, second = self.again(maker.kinds, history), self.again(maker.kinds, history)
                     first.close(one), first.close(other), second.close(other), second.close(one)
-                    self.same_places(first, second, self.numbers(scopes))
+                    self.same_places(first, second, numbers_of(scopes))
                     compared += 1
         self.assertGreater(compared, 100)
 
@@ -164,12 +193,83 @@ class TestScopes(unittest.TestCase):
         return scope is not None and (scope == above or self.is_under(parents, parents[scope], above))
 
     def same_places(self, first, second, old):
-        self.assertEqual(len(self.numbers(first)), len(self.numbers(second)))
+        self.assertEqual(len(numbers_of(first)), len(numbers_of(second)))
         self.assertEqual([first.place_of(number) for number in old], [second.place_of(number) for number in old])
-        new = self.numbers(first)[len(old):]
+        new = numbers_of(first)[len(old):]
         self.assertEqual(sorted([(first.place_of(number), first.kind_of(number)) for number in new]),
                          sorted([(second.place_of(number), second.kind_of(number)) for number in new]))
         self.assertEqual(first.open_scopes, second.open_scopes)
+
+    def test_recorded_scopes_and_their_replays_have_the_same_places(self):
+        for seed in range(60):
+            maker = Maker(700 + seed, [*FAMILIES, FIVE][seed % 6])
+            scopes, recorded = Scopes(maker.kinds), RecordedScopes(maker.kinds)
+            for _ in range(30):
+                call = maker.call(scopes)
+                self.assertEqual(done(recorded, call), done(scopes, call))
+            for other in (recorded, recorded.replayed(), recorded.replayed().replayed()):
+                self.assertEqual((other.outcomes, other.open_scopes), (scopes.outcomes, scopes.open_scopes))
+                self.same_places(scopes, other, numbers_of(scopes))
+
+
+class TestTexts(unittest.TestCase):
+    """Texts stand for values, and a desk answers in texts what is returned for values."""
+
+    def test_texts_of_stacks_trees_and_outcomes(self):
+        for stack in STACKS:
+            self.assertEqual(read_stack(K, show_stack(stack)), stack)
+        for stack, tree in zip(Maker(800).stacks(300), Maker(801).trees(300)):
+            self.assertEqual(read_tree(K, show_tree(tree)), tree)
+            outcome = handled(K, stack, tree, first=5)
+            if outcome is not None:
+                self.assertEqual(read_tree(K, show_tree(outcome)), outcome)
+
+    def test_handle_and_row(self):
+        desk = Desk()
+        desk.say("kinds io net<io disk<io both<net,disk")
+        for stack, tree in zip(STACKS, itertools.cycle(TREES)):
+            text = " " + show_stack(stack) if stack else ""
+            outcome = handled(K, stack, tree)
+            self.assertEqual(desk.say(f"handle {show_tree(tree)}{text}"), "-" if outcome is None else show_tree(outcome))
+            for names in SETS:
+                row = Table(K, *stack).row(names)
+                self.assertEqual(desk.say(f"row {','.join(names)}{text}"), "-" if row is None else show_template(row))
+
+    def test_histories_of_thirty_calls(self):
+        for seed in range(40):
+            maker, desk = Maker(810 + seed), Desk()
+            desk.say("kinds io net<io disk<io both<net,disk")
+            scopes = Scopes(K)
+            for _ in range(30):
+                call = maker.call(scopes)
+                if call[0] != "raise_in" or len(call[1]) > 1:
+                    self.assertEqual(desk.say(self.command(call)), self.answer(call[0], done(scopes, call)))
+            for number in numbers_of(scopes):
+                self.assertEqual(desk.say(f"place {number}"), self.words(*scopes.place_of(number)))
+                self.assertEqual(desk.say(f"destiny {number}"), self.words(*scopes.destiny(number)))
+
+    def command(self, call):
+        word, (first, *rest), named = call
+        if word == "raise_in":
+            return f"raise {first} {','.join(rest)}"
+        if word == "close":
+            return f"close {first}"
+        stack = " " + show_stack(tuple(rest)) if rest else ""
+        if word == "set_stack":
+            return f"set {first}{stack}"
+        return (f"open {first}" if named["parent"] is None else f"under {named['parent']} {first}") + stack
+
+    def answer(self, word, found):
+        if word == "raise_in":
+            return " ".join([str(number) for number in found])
+        if word == "begin":
+            return str(found)
+        if word == "set_stack":
+            return "ok"
+        return "-" if found is None else show_tree(found)
+
+    def words(self, word, scope, *further):
+        return " ".join([word, str(scope), *[".".join([str(index) for index in indices]) for indices in further]])
 
 
 if __name__ == "__main__":

@@ -8,7 +8,7 @@ from errorplaces.trees import leaves
 from cases import Case
 from made import ACTIONS, BASES, EDGES, FAMILIES, ONE_CLAUSE, Maker
 from reckoning import Reckoner
-from samples import G, H, K, P, T, UNLIKE, as_lists, nested
+from samples import G, H, K, NO_STACKS, P, T, UNLIKE, as_lists, nested
 
 RECKONER = Reckoner(BASES)
 TWINS = ("", (("net", 1), ("net", 1), ("x", (("net", 1), ("io", 1))), ("both", 1), ("disk", 1)))
@@ -18,8 +18,6 @@ TREES = [
     T, TWINS, WIDE, ("io", 3), ("net", 0), ("disk", 7), ("both", 10 ** 59), ("m", (("both", 5),)),
     ("", (("", (("disk", 0),)), ("net", 0))), ("a", (("b", (("c", (("net", 1),)),)), ("d", (("io", 2), ("both", 2))))),
 ]
-NO_STACKS = [thing for thing in [*UNLIKE, [G], G, H, P, (G, 5), as_lists((G,)), ((((), "drop"),),), (((("cpu",), "drop"),),)]
-             if thing not in ((), ((),))]
 NO_TREES = [thing for thing in [*UNLIKE, as_lists(T), ("m", ()), ("cpu", 1), ("io", -1), ("io", True), (("io", 1),)]
             if thing != ("net", (("net", 1),))]
 NO_NUMBERS = [thing for thing in UNLIKE if not isinstance(thing, int) or isinstance(thing, bool) or thing < 0]
