@@ -36,7 +36,7 @@ def read_tree(kinds, text):
     """Return the tree of these kinds that a text writes. The text is any value."""
     words = words_in(text)
     tree = tree_in(words[0]) if words is not None and len(words) == 1 else None
-    if tree is None or not is_tree(kinds, tree):
+    if not is_tree(kinds, tree):
         raise NoText(text)
     return tree
 
@@ -44,8 +44,8 @@ def read_tree(kinds, text):
 def read_stack(kinds, text):
     """Return the stack of these kinds that a text writes. The text is any value."""
     words = words_in(text)
-    stack = stack_in(words) if words is not None else None
-    if stack is None or not is_stack(kinds, stack):
+    stack = None if words is None else stack_in(words)
+    if not is_stack(kinds, stack):
         raise NoText(text)
     return stack
 

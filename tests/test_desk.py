@@ -37,6 +37,7 @@ NO_COMMANDS = [
     "handle ", "handle io", "handle io:01", "handle io:1 ", "handle  io:1", "handle io:1 io", "handle io:1 io:1", "handle m()", "handle m(io:1", "handle io:-1",
     "handle - io:1", "handle -", "handle io:1 - - ", "handle io:1 drop", "handle m(io:1, io:2)", "handle io:1 io raise **", "handle *", "handle io drop",
     "row ", "row io, ", "row io,", "row io net", "row io  -", "row io ", "row *", "row io:1", "row 0", "row IO", "row -", "row io/net", "row io io keep", "row io drop",
+    "row io io keep ( - )", "row io ( - ) drop", "row io io raise ( - )", "row io io pass ( ( - ) )", "row io io pass ( io keep ( io drop ) )",
     "handle " + "(" * 51 + "io:1" + ")" * 51, "handle io:1 " + "io pass ( " * 51 + "-" + " )" * 51, "open day io raise " + "(" * 51 + "*" + ")" * 51,
     "row io " + "io pass ( " * 51 + "-" + " )" * 51, "set 0 io raise " + "m(" * 51 + "io" + ")" * 51,
 ]
