@@ -54,6 +54,20 @@ def folded(root, inside, made_of):
     return made[0]
 
 
+def same(one, other):
+    """Whether two values are equal. Tuples may be nested deeper than Python itself compares them."""
+    pending = [(one, other)]
+    while pending:
+        left, right = pending.pop()
+        if isinstance(left, tuple) and isinstance(right, tuple):
+            if len(left) != len(right):
+                return False
+            pending.extend(list(zip(left, right)))
+        elif left != right:
+            return False
+    return True
+
+
 def copied(value):
     """Return an equal value that has no list in common with this one."""
     nodes, spans = taken_apart(value)

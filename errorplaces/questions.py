@@ -2,6 +2,7 @@
 
 from errorplaces.errors import NoStack, Unlike
 from errorplaces.handlers import addresses, is_stack
+from errorplaces.plain import same
 from errorplaces.running import Numbers, drop_address, run_stack, taker
 from errorplaces.tables import Table
 from errorplaces.templates import is_hole, kinds_in, pieces
@@ -13,7 +14,7 @@ def telling(one, other):
         raise Unlike()
     # The rows for the fewest kinds come first, and a tree needs no more than a leaf for each kind.
     for names, is_bare, row in one.rows():
-        if row != other.row(names, bare=is_bare):
+        if not same(row, other.row(names, bare=is_bare)):
             return _telling_tree(names, is_bare)
     return None
 

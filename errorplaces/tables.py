@@ -4,6 +4,7 @@ from itertools import combinations
 
 from errorplaces.errors import NoNames, NoStack, NoTree, Unlike
 from errorplaces.handlers import is_stack
+from errorplaces.plain import same
 from errorplaces.running import Numbers, run_stack
 from errorplaces.templates import filled, is_hole, is_leaf, kinds_in, rebuilt
 from errorplaces.trees import is_tree
@@ -20,7 +21,7 @@ class Table:
         self._rows = _all_rows(kinds, guards)
 
     def __eq__(self, other):
-        return isinstance(other, Table) and self._kinds == other._kinds and self._rows == other._rows
+        return isinstance(other, Table) and self._kinds == other._kinds and _are_same(self._rows, other._rows)
 
     def __len__(self):
         return len(self._rows)
@@ -73,6 +74,11 @@ class Table:
     def _filled_row(self, tree, is_bare):
         row = self._rows[(tuple(kinds_in(tree)), is_bare)]
         return None if row is None else filled(row, tree)
+
+
+def _are_same(rows, others):
+    """Whether all rows of two tables of the same kinds are equal."""
+    return all([same(rows[key], others[key]) for key in rows])
 
 
 def _all_rows(kinds, stack):

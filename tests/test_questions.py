@@ -7,6 +7,7 @@ from errorplaces.kinds import Kinds
 from errorplaces.questions import added, drops, idle, spare, telling
 from errorplaces.running import handled
 from errorplaces.tables import Table
+from errorplaces.texts import read_stack, show_template
 from errorplaces.trees import is_tree
 from cases import Case
 from made import BASES, EDGES, FAMILIES, FIVE, ONE_CLAUSE, Maker
@@ -446,6 +447,20 @@ class TestConventions(Case):
         self.assertEqual(drops(K, (deep,)), dict.fromkeys(K.order, (0,) * 102))
         self.assertEqual((idle(K, (deep,)), added(K, (deep,))), ([], []))
         self.assertEqual(spare(K, (deep, deep)), [(g,) + (0,) * many for g in (0, 1) for many in range(1, 102)])
+
+    def test_rows_of_600_groups(self):
+        kinds = Kinds(io=())
+
+        def stack(message):
+            deep = "io pass ( " * 50 + "io raise " + "(" * 49 + message + "(*)" + ")" * 49 + " )" * 50
+            return read_stack(kinds, " | ".join(["io back", *[deep] * 6]))
+
+        one, other = Table(kinds, *stack("")), Table(kinds, *stack("m"))
+        self.assertEqual(show_template(one.row(["io"])).count("("), 6 * 101)
+        self.assertTrue(one == Table(kinds, *stack("")))
+        self.assertFalse(one == other)
+        self.assertIsNone(telling(one, Table(kinds).then(one)))
+        self.assertEqual(telling(one, other)[0], "io")
 
 
 if __name__ == "__main__":
